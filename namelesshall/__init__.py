@@ -1,0 +1,1 @@
+"""Namelesshall: hands without names, and which of them can be the first."""
