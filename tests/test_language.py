@@ -1,6 +1,7 @@
 """The files of the package keep the rules of the language that a short look can see."""
 
 import ast
+import builtins
 import pathlib
 import re
 import unittest
@@ -29,6 +30,15 @@ BARRED_WORDS = re.compile(
     r"|dataclass|overload|contextmanager"
 )
 
+BARRED_NAMES = set(
+    "register mro elements open input version_info with_traceback add_note attrgetter breakpoint "
+    "builtins compile copyright credits delattr dir eval exec exit gc getattr globals hasattr help id "
+    "importlib license locals methodcaller os quit setattr super vars sys format format_map".split()
+)
+TAKES_GENERATORS = set("list tuple dict sorted sum min max any all".split())
+AT_ONCE = set("zip enumerate reversed range".split())
+TAKES_AT_ONCE = set("list tuple dict sorted sum any all enumerate zip bytes min max".split())
+
 
 def trees():
     """Each file with what Python makes of it."""
@@ -38,6 +48,42 @@ def trees():
 def nodes():
     """Each part of each file."""
     return [(name, node) for name, tree in trees() for node in ast.walk(tree)]
+
+
+def with_parents():
+    """Each part of each file with the part in which it stands."""
+    return [
+        (name, parent, node)
+        for name, parent in nodes()
+        for node in ast.iter_child_nodes(parent)
+    ]
+
+
+def called(node):
+    """The name of the plain function that this part calls, or None."""
+    if isinstance(node, ast.Call) and isinstance(node.func, ast.Name):
+        return node.func.id
+    return None
+
+
+def imports(tree):
+    """Pairs (file, name) of all that a file imports."""
+    return [
+        (node.module.split(".")[-1] + ".py", alias.name)
+        for node in ast.walk(tree) if isinstance(node, ast.ImportFrom)
+        for alias in node.names
+    ]
+
+
+def defined(tree):
+    """The names that a file binds itself, outside of functions and classes."""
+    names = set()
+    for node in tree.body:
+        if isinstance(node, (ast.FunctionDef, ast.ClassDef)):
+            names.add(node.name)
+        if isinstance(node, ast.Assign):
+            names.update(target.id for target in node.targets)
+    return names
 
 
 class Files(unittest.TestCase):
@@ -106,6 +152,79 @@ class Parts(unittest.TestCase):
                 if isinstance(word, str) and not re.fullmatch("__[a-z]+__", word):
                     self.assertFalse(word.startswith("_"), (name, word))
 
+    def test_l7_generator_expressions_stand_in_what_takes_them(self):
+        for name, parent, node in with_parents():
+            if isinstance(node, ast.GeneratorExp):
+                join = isinstance(parent, ast.Call) and getattr(parent.func, "attr", "") == "join"
+                self.assertTrue(join or called(parent) in TAKES_GENERATORS, (name, node.lineno))
+
+    def test_l15_names_are_bound_once(self):
+        for name, tree in trees():
+            bound = [node.name for node in tree.body if isinstance(node, (ast.FunctionDef, ast.ClassDef))]
+            bound += [target.id for node in tree.body if isinstance(node, ast.Assign) for target in node.targets]
+            bound += [word for file, word in imports(tree)]
+            self.assertEqual(len(bound), len(set(bound)), name)
+
+    def test_l15_no_variable_is_called_like_a_builtin_class_or_import(self):
+        for name, tree in trees():
+            taken = set(dir(builtins)) | {word for file, word in imports(tree)}
+            taken |= {node.name for node in tree.body if isinstance(node, ast.ClassDef)}
+            for node in ast.walk(tree):
+                if isinstance(node, ast.arg):
+                    self.assertNotIn(node.arg, taken, name)
+                if isinstance(node, ast.Name) and isinstance(node.ctx, ast.Store):
+                    self.assertNotIn(node.id, taken, name)
+
+    def test_l16_imports_name_the_file_that_defines(self):
+        names = {name: defined(tree) for name, tree in trees()}
+        for name, tree in trees():
+            for file, word in imports(tree):
+                self.assertIn(word, names[file], name)
+
+    def test_l16_no_file_imports_itself_by_way_of_others(self):
+        direct = {name: {file for file, word in imports(tree)} for name, tree in trees()}
+        for name in direct:
+            far = set(direct[name])
+            for again in direct:
+                far |= {file for near in far for file in direct[near]}
+            self.assertNotIn(name, far)
+
+    def test_l17_names(self):
+        for name, node in nodes():
+            for field in ("id", "name", "attr", "arg"):
+                self.assertNotIn(getattr(node, field, None), BARRED_NAMES, name)
+
+    def test_l18_no_name_is_a_method_and_an_attribute(self):
+        methods = {
+            part.name for name, node in nodes() if isinstance(node, ast.ClassDef)
+            for part in node.body if isinstance(part, ast.FunctionDef)
+        }
+        stored = {
+            node.attr for name, node in nodes()
+            if isinstance(node, ast.Attribute) and isinstance(node.ctx, ast.Store)
+        }
+        self.assertEqual(methods & stored, set())
+
+    def test_l23_iterated_at_once(self):
+        for name, parent, node in with_parents():
+            if called(node) in AT_ONCE or getattr(getattr(node, "func", 0), "attr", "") in ("items", "keys", "values"):
+                at_once = isinstance(parent, (ast.For, ast.comprehension)) or called(parent) in TAKES_AT_ONCE
+                inside = isinstance(parent, ast.Compare) or called(parent) in ("reversed", "len")
+                self.assertTrue(at_once or inside, (name, node.lineno))
+
+    def test_l23_what_a_loop_goes_over_is_not_changed_in_it(self):
+        for name, node in nodes():
+            if isinstance(node, ast.For):
+                over = {part.id for part in ast.walk(node.iter) if isinstance(part, ast.Name)}
+                for part in [inner for row in node.body for inner in ast.walk(row)]:
+                    self.assertNotIn(changed_name(part), over, (name, node.lineno))
+
+    def test_l24_sets(self):
+        for name, parent, node in with_parents():
+            if called(node) in ("set", "frozenset") or isinstance(node, (ast.Set, ast.SetComp)):
+                told = called(parent) in ("sorted", "len") or isinstance(parent, (ast.Assign, ast.Compare))
+                self.assertTrue(told, (name, node.lineno))
+
     def test_l20_is(self):
         for name, node in nodes():
             if isinstance(node, ast.Compare):
@@ -123,6 +242,17 @@ class Parts(unittest.TestCase):
         for name, node in nodes():
             if isinstance(node, ast.Constant) and isinstance(node.value, str):
                 self.assertNotIn("%", node.value, name)
+
+
+def changed_name(node):
+    """The plain name whose value this part changes by a method or at an item, or None."""
+    if isinstance(node, ast.Call) and isinstance(node.func, ast.Attribute):
+        if node.func.attr in ("append", "clear", "extend", "insert", "pop", "remove", "reverse", "setdefault",
+                              "update", "sort", "add", "discard"):
+            return getattr(node.func.value, "id", None)
+    if isinstance(node, ast.Subscript) and isinstance(node.ctx, (ast.Store, ast.Del)):
+        return getattr(node.value, "id", None)
+    return None
 
 
 if __name__ == "__main__":

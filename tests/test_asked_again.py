@@ -1,0 +1,95 @@
+"""Point 2: nothing handed in is changed, and the same is told to whoever asks again."""
+
+import unittest
+
+from namelesshall.changed import exchanged, marked, renamed
+from namelesshall.leadings import followed, is_leading, leadings
+from namelesshall.numbers import numbers_at, numbers_of_two, stays_from
+from namelesshall.stories import story
+from samples import MIXED, SMALL, covers, eight_handed, is_told, ring, small_webs
+
+WEBS = SMALL + small_webs()[::8] + eight_handed()
+PAIRS = [(web, lesser) for web, lesser, row in covers()] + list(zip(WEBS, WEBS[1:] + WEBS[:1]))
+
+
+def calls_of_one():
+    """Calls about one web, function and arguments."""
+    calls = []
+    for web in WEBS:
+        last = len(web) - 1
+        calls.append((stays_from, web))
+        calls.append((renamed, web, tuple(range(last, -1, -1))))
+        calls.append((marked, web, (last,), 3))
+        for turn in (0, 1, 3):
+            calls.append((story, web, last, turn))
+        for turn in (0, 1, 20):
+            calls.append((numbers_at, web, turn))
+        if len(web[last][1]) > 1:
+            calls.append((exchanged, web, last, 1, 0))
+    return calls
+
+
+def calls_of_two():
+    """Calls about two webs, or about what was told of them."""
+    calls = []
+    for one, other in PAIRS:
+        calls.append((leadings, one, other))
+        calls.append((is_leading, one, other, (0,) * len(one)))
+        calls.append((numbers_of_two, one, other, 2))
+    for web, lesser, row in covers():
+        calls.append((is_leading, web, lesser, row))
+        calls.append((followed, row, tuple(range(len(lesser)))))
+    return calls
+
+
+CALLS = calls_of_one() + calls_of_two()
+
+
+def spoil(told):
+    """Changes what was told as far as it can be changed."""
+    if type(told) is list:
+        told.append("spoilt")
+        told.reverse()
+
+
+class AskedAgain(unittest.TestCase):
+    def test_nothing_handed_in_is_changed(self):
+        for function, *arguments in CALLS:
+            ahead = repr(arguments)
+            function(*arguments)
+            self.assertEqual(repr(arguments), ahead, function.__name__)
+
+    def test_the_same_is_told_with_other_calls_between(self):
+        kept = []
+        for function, *arguments in CALLS:
+            told = function(*arguments)
+            kept.append(repr(told))
+            spoil(told)
+        for (function, *arguments), first in reversed(list(zip(CALLS, kept))):
+            self.assertEqual(repr(function(*arguments)), first, function.__name__)
+
+    def test_what_is_told_is_plain(self):
+        for function, *arguments in CALLS:
+            self.assertTrue(is_told(function(*arguments)), function.__name__)
+
+    def test_every_list_is_a_new_one(self):
+        for function, *arguments in CALLS:
+            first, second = function(*arguments), function(*arguments)
+            if type(first) is list:
+                self.assertIsNot(first, second, function.__name__)
+
+
+class HandedOn(unittest.TestCase):
+    def test_webs_told_are_handed_on(self):
+        web = exchanged(marked(renamed(MIXED, (2, 0, 1)), (0,), 4), 2, 0, 3)
+        self.assertEqual(leadings(web, web), [(0, 1, 2)])
+        self.assertEqual(numbers_at(web, 1), (0, 1, 2))
+
+    def test_leadings_told_are_handed_on(self):
+        for first in leadings(ring(8), ring(4)):
+            for second in leadings(ring(4), ring(2)):
+                self.assertIn(followed(first, second), leadings(ring(8), ring(2)))
+
+
+if __name__ == "__main__":
+    unittest.main()
