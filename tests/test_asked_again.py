@@ -2,10 +2,14 @@
 
 import unittest
 
+from namelesshall.beneath import beneath, is_own, same
 from namelesshall.changed import exchanged, marked, renamed
 from namelesshall.leadings import followed, is_leading, leadings
+from namelesshall.lesser import by_parting, lesser_webs
 from namelesshall.numbers import numbers_at, numbers_of_two, stays_from
+from namelesshall.parting import parted
 from namelesshall.stories import story
+from namelesshall.together import together
 from samples import MIXED, SMALL, covers, eight_handed, is_told, ring, small_webs
 
 WEBS = SMALL + small_webs()[::8] + eight_handed()
@@ -18,6 +22,11 @@ def calls_of_one():
     for web in WEBS:
         last = len(web) - 1
         calls.append((stays_from, web))
+        calls.append((beneath, web))
+        calls.append((is_own, web))
+        calls.append((by_parting, web, tuple(range(len(web)))))
+        if len(web) <= 6:
+            calls.append((lesser_webs, web))
         calls.append((renamed, web, tuple(range(last, -1, -1))))
         calls.append((marked, web, (last,), 3))
         for turn in (0, 1, 3):
@@ -36,6 +45,11 @@ def calls_of_two():
         calls.append((leadings, one, other))
         calls.append((is_leading, one, other, (0,) * len(one)))
         calls.append((numbers_of_two, one, other, 2))
+        calls.append((parted, one, len(one) - 1, other, 0))
+        calls.append((parted, one, 0, one, len(one) - 1))
+        calls.append((same, one, other))
+        calls.append((same, one, renamed(one, tuple(range(len(one)))[::-1])))
+        calls.append((together, one, other))
     for web, lesser, row in covers():
         calls.append((is_leading, web, lesser, row))
         calls.append((followed, row, tuple(range(len(lesser)))))
