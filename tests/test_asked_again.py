@@ -2,14 +2,18 @@
 
 import unittest
 
+from namelesshall.above import above
 from namelesshall.beneath import beneath, is_own, same
 from namelesshall.changed import exchanged, marked, renamed
+from namelesshall.errors import NoProgram
 from namelesshall.leadings import followed, is_leading, leadings
 from namelesshall.lesser import by_parting, lesser_webs
 from namelesshall.numbers import numbers_at, numbers_of_two, stays_from
 from namelesshall.parting import parted
+from namelesshall.programs import look_program
 from namelesshall.stories import story
 from namelesshall.together import together
+from namelesshall.values import is_ahead, parts, show_value
 from samples import MIXED, SMALL, covers, eight_handed, is_told, ring, small_webs
 
 WEBS = SMALL + small_webs()[::8] + eight_handed()
@@ -33,6 +37,9 @@ def calls_of_one():
             calls.append((story, web, last, turn))
         for turn in (0, 1, 20):
             calls.append((numbers_at, web, turn))
+        for sheets in (1, 2, 4):
+            if len(web) * sheets <= 16:
+                calls.append((above, web, sheets))
         if len(web[last][1]) > 1:
             calls.append((exchanged, web, last, 1, 0))
     return calls
@@ -56,7 +63,32 @@ def calls_of_two():
     return calls
 
 
-CALLS = calls_of_one() + calls_of_two()
+VALUES = [0, 9999, (), (1, (2, 3), ()), ((), ((), (7,))), (5,) * 599, 10 ** 999]
+PROGRAMS = [
+    (), (("end", ("mark",)),), (("set", "x", ("value", (1, (2,)))), ("go", 0)), (("go", 1),),
+    (("swap", "x", ("bundle", ("name", "x"), ("pegs",))), ("test", "same", ("name", "go"), ("mark",), 0)),
+]
+
+
+def refusal_of(program):
+    """True, or the row at which the program is refused."""
+    try:
+        return look_program(program)
+    except NoProgram as refusal:
+        return [refusal.row]
+
+
+def calls_of_values():
+    """Calls about values and programs."""
+    calls = [(refusal_of, program) for program in PROGRAMS]
+    for value in VALUES:
+        calls.append((parts, value))
+        calls.append((show_value, value))
+        calls.extend((is_ahead, value, other) for other in VALUES)
+    return calls
+
+
+CALLS = calls_of_one() + calls_of_two() + calls_of_values()
 
 
 def spoil(told):
