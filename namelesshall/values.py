@@ -13,6 +13,13 @@ def parts(value):
     return 1 + sum([parts(thing) for thing in value])
 
 
+def within(value):
+    """How many values of this one, itself too, stand within one another."""
+    if not is_bundle(value) or len(value) == 0:
+        return 1
+    return 1 + max([within(thing) for thing in value])
+
+
 def is_ahead(one, other):
     """Whether the one value goes ahead of the other one."""
     if not is_bundle(one) and not is_bundle(other):
@@ -25,6 +32,13 @@ def is_ahead(one, other):
         if thing != other_thing:
             return is_ahead(thing, other_thing)
     return False
+
+
+def order_key(value):
+    """What Python's tuples are sorted by as values are in order."""
+    if not is_bundle(value):
+        return (0, value)
+    return (1, len(value), tuple([order_key(thing) for thing in value]))
 
 
 def show_value(value):

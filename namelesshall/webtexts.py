@@ -1,9 +1,9 @@
 """The texts of webs: a row for each hand, its mark and where each of its pegs leads."""
 
 from namelesshall.errors import NoText
+from namelesshall.figures import read_number
 from namelesshall.webs import look
 
-FIGURES = "0123456789"
 MOST_FIGURES = 2
 
 
@@ -39,7 +39,7 @@ def read_hand(row):
     words = row.split(" ")
     if len(words) < 2 or words[0] != "hand":
         return None
-    mark = read_number(words[1])
+    mark = read_number(words[1], MOST_FIGURES)
     pegs = [read_peg(word) for word in words[2:]]
     if mark is None or None in pegs:
         return None
@@ -48,19 +48,7 @@ def read_hand(row):
 
 def read_peg(word):
     """The (hand, peg) of a word HAND.PEG, or None."""
-    numbers = [read_number(figures) for figures in word.split(".")]
+    numbers = [read_number(figures, MOST_FIGURES) for figures in word.split(".")]
     if len(numbers) != 2 or None in numbers:
         return None
     return (numbers[0], numbers[1])
-
-
-def read_number(figures):
-    """The number of one or two figures without a nought ahead of others, or None."""
-    if len(figures) == 0 or len(figures) > MOST_FIGURES:
-        return None
-    # isdigit would let by signs that are no figures from 0 to 9.
-    if any(sign not in FIGURES for sign in figures):
-        return None
-    if len(figures) > 1 and figures[0] == "0":
-        return None
-    return int(figures)

@@ -2,15 +2,20 @@
 
 import unittest
 
+from drawn import drawn_programs
 from namelesshall.above import above
 from namelesshall.beneath import beneath, is_own, same
 from namelesshall.changed import exchanged, marked, renamed
-from namelesshall.errors import NoProgram
+from namelesshall.errors import HallError, NoProgram
+from namelesshall.halls import Hall
 from namelesshall.leadings import followed, is_leading, leadings
 from namelesshall.lesser import by_parting, lesser_webs
+from namelesshall.making import first_program
 from namelesshall.numbers import numbers_at, numbers_of_two, stays_from
 from namelesshall.parting import parted
 from namelesshall.programs import look_program
+from namelesshall.programtexts import read_program, show_program
+from namelesshall.runs import by_order, in_step
 from namelesshall.stories import story
 from namelesshall.together import together
 from namelesshall.values import is_ahead, parts, show_value
@@ -88,7 +93,45 @@ def calls_of_values():
     return calls
 
 
-CALLS = calls_of_one() + calls_of_two() + calls_of_values()
+TEXTS = ["", "go 0", "end (bundle 1 [2 []])\nend x", "set x 1\nswap h x\ntest ahead h [1 2] 0", "go 1", "go 0\n",
+         "end (plus mark pegs)\ngo", "set go 1"]
+
+
+def read_or_refused(text):
+    """The program of this text, or by what it is refused."""
+    try:
+        return read_program(text)
+    except HallError as refusal:
+        return (type(refusal).__name__, refusal.row)
+
+
+def hall_told(web, program, order):
+    """All that a hall tells of its hands behind these turns; the hall is a new one at each asking."""
+    hall = Hall(web, program)
+    for hand in order:
+        hall.turn(hand)
+    return [
+        (hall.told(hand), tuple(hall.done(hand)), tuple(hall.lying(hand, peg) for peg in range(len(pegs))))
+        for hand, (mark, pegs) in enumerate(web)
+    ]
+
+
+def calls_of_programs():
+    """Calls about programs, their texts and their runs."""
+    calls = [(read_or_refused, text) for text in TEXTS] + [(first_program, n) for n in range(1, 7)]
+    programs = [program for program in PROGRAMS if refusal_of(program) is True]
+    programs += [first_program(n) for n in (1, 3, 6)] + drawn_programs(2, 10)
+    for program in programs:
+        calls.append((show_program, program))
+        for web in WEBS[::6]:
+            order = (tuple(range(len(web))) + (0, 0)) * 4
+            calls.append((by_order, web, program, order))
+            calls.append((in_step, web, program, 9))
+            calls.append((hall_told, web, program, order))
+    return calls
+
+
+CALLS = calls_of_one() + calls_of_two() + calls_of_values() + calls_of_programs()
 
 
 def spoil(told):

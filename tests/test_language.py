@@ -124,6 +124,31 @@ class Parts(unittest.TestCase):
                 self.assertIsInstance(
                     node, (ast.ImportFrom, ast.FunctionDef, ast.ClassDef, ast.Assign), name)
 
+    def test_l3_values_at_module_level_are_plain(self):
+        for name, tree in trees():
+            functions = {node.name for node in tree.body if isinstance(node, ast.FunctionDef)}
+            for node in tree.body:
+                if isinstance(node, ast.Assign):
+                    for part in ast.walk(node.value):
+                        plain = isinstance(part, (ast.Constant, ast.Tuple, ast.List, ast.Dict, ast.Load))
+                        self.assertTrue(plain or getattr(part, "id", None) in functions, (name, node.lineno))
+                    inner = [part for part in ast.walk(node.value) if isinstance(part, (ast.List, ast.Dict))]
+                    self.assertTrue(inner in ([], [node.value]), (name, node.lineno))
+
+    def test_l15_values_at_module_level_are_not_changed(self):
+        tables = {target.id for name, tree in trees() for node in tree.body
+                  if isinstance(node, ast.Assign) for target in node.targets}
+        for name, node in nodes():
+            self.assertNotIn(changed_name(node), tables, name)
+
+    def test_l4_functions_stand_plainly(self):
+        for name, node in nodes():
+            if isinstance(node, ast.FunctionDef):
+                self.assertEqual(node.decorator_list, [], (name, node.name))
+                inner = [part for part in ast.walk(node) if isinstance(part, (ast.FunctionDef, ast.ClassDef))]
+                self.assertEqual(inner, [node], name)
+                self.assertEqual(node.args.posonlyargs, [], (name, node.name))
+
     def test_l6_l7_barred_parts(self):
         for name, node in nodes():
             self.assertNotIsInstance(node, BARRED_NODES, name)
@@ -204,6 +229,33 @@ class Parts(unittest.TestCase):
             if isinstance(node, ast.Attribute) and isinstance(node.ctx, ast.Store)
         }
         self.assertEqual(methods & stored, set())
+
+    def test_l18_what_is_read_off_an_object_is_stored_or_a_method(self):
+        stored = {
+            node.attr for name, node in nodes()
+            if isinstance(node, ast.Attribute) and isinstance(node.ctx, ast.Store)
+        }
+        functions = {node.name for name, node in nodes() if isinstance(node, ast.FunctionDef)}
+        for name, parent, node in with_parents():
+            if isinstance(node, ast.Attribute) and isinstance(node.ctx, ast.Load):
+                is_called = isinstance(parent, ast.Call) and parent.func is node
+                known = METHODS | functions if is_called else stored
+                self.assertIn(node.attr, known, (name, node.lineno))
+
+    def test_l18_classes_are_called_raised_or_bases(self):
+        classes = {node.name for name, node in nodes() if isinstance(node, ast.ClassDef)}
+        for name, parent, node in with_parents():
+            if isinstance(node, ast.Name) and node.id in classes:
+                right = isinstance(parent, (ast.Call, ast.ClassDef, ast.ExceptHandler, ast.Raise))
+                self.assertTrue(right, (name, node.lineno))
+
+    def test_l19_errors_are_made_on_the_spot(self):
+        for name, node in nodes():
+            if isinstance(node, ast.Raise):
+                self.assertIsInstance(node.exc, ast.Call, (name, node.lineno))
+                self.assertIsNone(node.cause, (name, node.lineno))
+            if isinstance(node, ast.ExceptHandler):
+                self.assertIsNotNone(node.type, (name, node.lineno))
 
     def test_l23_iterated_at_once(self):
         for name, parent, node in with_parents():
