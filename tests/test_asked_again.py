@@ -4,14 +4,18 @@ import unittest
 
 from drawn import drawn_programs
 from namelesshall.above import above
+from namelesshall.answering import answering
 from namelesshall.beneath import beneath, is_own, same
 from namelesshall.changed import exchanged, marked, renamed
+from namelesshall.desk import Desk
 from namelesshall.errors import HallError, NoProgram
+from namelesshall.exchanges import fewest, none_fewer
 from namelesshall.halls import Hall
 from namelesshall.leadings import followed, is_leading, leadings
 from namelesshall.lesser import by_parting, lesser_webs
 from namelesshall.making import first_program
 from namelesshall.numbers import numbers_at, numbers_of_two, stays_from
+from namelesshall.papers import holds, paper_of
 from namelesshall.parting import parted
 from namelesshall.programs import look_program
 from namelesshall.programtexts import read_program, show_program
@@ -131,7 +135,42 @@ def calls_of_programs():
     return calls
 
 
-CALLS = calls_of_one() + calls_of_two() + calls_of_values() + calls_of_programs()
+DESK_ROWS = ("web a hand 1 1.0 ; hand 1 0.0", "program p swap x mark ; end x", "text a", "least a", "keep b a", "text",
+             "parted a 0 b 0", "run p a 9", "web a hand", "first a", "apart a b", "text c", "least p", "program a go 1")
+
+
+def desk_told(rows):
+    """What a new desk tells of these rows, one after the other, or by what each is refused."""
+    desk = Desk()
+    told = []
+    for row in rows:
+        try:
+            told.append(desk.say(row))
+        except HallError as refusal:
+            told.append((type(refusal).__name__, tuple(sorted(vars(refusal).items()))))
+    return told
+
+
+def calls_of_papers():
+    """Calls about lists of webs, papers, exchanges and the desk."""
+    calls = [(desk_told, DESK_ROWS), (desk_told, DESK_ROWS[::-1]), (desk_told, DESK_ROWS * 2)]
+    few = [web for web in WEBS if len(web) <= 5]
+    for one, other in zip(few, few[3:] + few[:3]):
+        calls.append((answering, (one, one), (other,)))
+        calls.append((answering, (one,), (other, one)))
+    for web in [web for web in WEBS if len(web) <= 6]:
+        paper = paper_of(web)
+        calls.append((paper_of, web))
+        calls.append((holds, web, paper))
+        calls.append((holds, web, ("led", web, (0,) * len(web))))
+        calls.append((holds, web, ("first", (("go", 1),))))
+    for web in [web for web in few if all(len(pegs) <= 3 for mark, pegs in web)]:
+        calls.append((fewest, web))
+        calls.append((none_fewer, web, 2))
+    return calls
+
+
+CALLS = calls_of_one() + calls_of_two() + calls_of_values() + calls_of_programs() + calls_of_papers()
 
 
 def spoil(told):

@@ -114,6 +114,15 @@ class RowsDone(Halls):
         self.stands(hall, 0, "goes", 0)
         self.has_done(hall, 0, *[(0, 0)] * 7)
 
+    def test_four_thousand_turns(self):
+        hall = hall_of(PAIR, "set i (plus i 1)", "swap h i", "go 0")
+        self.turned(hall, *[0, 1] * 2000)
+        self.stands(hall, 0, "goes", 0, (("h", ((0, 500),)), ("i", 500)))
+        self.assertEqual(len(hall.done(1)), 1500)
+        hall = hall_of(ALONE, "set x (plus x (plus 1 x))", "go 0")
+        self.turned(hall, *[0] * 4000)
+        self.stands(hall, 0, "goes", 0, (("x", 2 ** 2000 - 1),))
+
     def test_end(self):
         for term, value in (("0", 0), ("5", 5), ("[]", ()), ("(bundle mark [3])", (0, (3,)))):
             hall = hall_of(ALONE, f"end {term}", "set x 1")
